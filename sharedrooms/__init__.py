@@ -1,0 +1,1 @@
+"""Rooms for arrays: live ranges, plans, sharing a room, the same results."""
