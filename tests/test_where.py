@@ -36,6 +36,14 @@ class WhereTest(unittest.TestCase):
         self.assert_form_fault("in a 1;let b 1=map a^,a;")
         self.assertEqual(found("in a^ 1;"), [2, 4])
 
+    def test_bytes_right_beside_digits_and_letters(self):
+        for byte in "/:`{@[":
+            self.assert_form_fault(f"in a^{byte} 1;")
+            self.assert_form_fault(f"in a 1^{byte};")
+            self.assert_form_fault(f"in ^{byte}a 1;")
+            self.assert_form_fault(f"in a ^{byte}1;")
+            self.assert_form_fault(f"^{byte}")
+
     def test_number_with_a_0_before_other_digits(self):
         self.assert_form_fault("in a ^01;")
         self.assert_form_fault("in a ^00;")
