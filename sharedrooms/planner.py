@@ -1,9 +1,13 @@
 """The calls on one object, one behind another, and their answers."""
 
-from sharedrooms.plans import first_clash, look_at_plan
+from sharedrooms.packing import packed_plan
+from sharedrooms.placing import plan_in_order, plan_longest_first, plan_one_behind_another
+from sharedrooms.plans import first_clash, look_at_plan, room_of
 from sharedrooms.program import input_numbers, plain_text
 from sharedrooms.reading import read_program
-from sharedrooms.refusals import MissingData, NoProgram, Refusal, TooLong, WrongForm, WrongName
+from sharedrooms.refusals import AbsentInput, BeyondLimit, ClashingPlan, MissingData, NoProgram, Refusal
+from sharedrooms.refusals import TooLong, WrongData, WrongForm, WrongName
+from sharedrooms.running import is_element, run_by_plan
 from sharedrooms.times import live_ranges, needed_at_least
 
 LOAD = 0
@@ -12,8 +16,18 @@ PLAIN = 2
 LIVE = 3
 NEED = 4
 CHECK = 5
+ROOM = 6
+PLAN = 7
+PACK = 8
+SET_DATA = 9
+RUN = 10
 APART = 11
-CALLS_WITH_ROW = (0, 1, 5)
+CALLS_WITH_NUMBER = (7, 9)
+CALLS_WITH_ROW = (0, 1, 5, 6, 8, 9, 10)
+
+ONE_BEHIND_ANOTHER = 0
+IN_ORDER = 1
+LONGEST_FIRST = 2
 
 
 class Rooms:
@@ -65,36 +79,89 @@ class Rooms:
             return [0]
         return [1] + pair
 
-    def apart(self):
-        for number in input_numbers(self.held_program()):
-            if number not in self.data:
-                raise MissingData()
-        # No call gives an input data, so the program has no inputs here; then it
-        # has no statements at all, since the first one could have no operand.
+    def room(self, plan):
+        program = self.held_program()
+        look_at_plan(program, plan)
+        return [room_of(program, plan)]
+
+    def plan(self, kind):
+        program = self.held_program()
+        if kind == ONE_BEHIND_ANOTHER:
+            return [0] + plan_one_behind_another(program)
+        if kind == IN_ORDER:
+            return [0] + plan_in_order(program)
+        if kind == LONGEST_FIRST:
+            return [0] + plan_longest_first(program)
+        raise BeyondLimit()
+
+    def pack(self, plan):
+        program = self.held_program()
+        look_at_plan(program, plan)
+        if len(first_clash(program, plan)) > 0:
+            raise ClashingPlan()
+        return [0] + packed_plan(program, plan)
+
+    def set_data(self, number, data):
+        program = self.held_program()
+        if number not in input_numbers(program):
+            raise AbsentInput()
+        if len(data) != program.statements[number].length:
+            raise WrongData()
+        for element in data:
+            if not is_element(element):
+                raise WrongData()
+        self.data[number] = list(data)
         return [0]
 
+    def look_for_data(self, program):
+        for number in input_numbers(program):
+            if number not in self.data:
+                raise MissingData()
 
-def work_call(rooms, number, row):
-    if number == LOAD:
+    def run(self, plan):
+        program = self.held_program()
+        look_at_plan(program, plan)
+        self.look_for_data(program)
+        return [0] + run_by_plan(program, self.data, plan)
+
+    # One behind another no two arrays share a place, so each is kept by itself.
+    def apart(self):
+        program = self.held_program()
+        self.look_for_data(program)
+        return [0] + run_by_plan(program, self.data, plan_one_behind_another(program))
+
+
+def work_call(rooms, call, number, row):
+    if call == LOAD:
         return rooms.load(row)
-    if number == WHERE:
+    if call == WHERE:
         return rooms.where(row)
-    if number == PLAIN:
+    if call == PLAIN:
         return rooms.plain()
-    if number == LIVE:
+    if call == LIVE:
         return rooms.live()
-    if number == NEED:
+    if call == NEED:
         return rooms.need()
-    if number == CHECK:
+    if call == CHECK:
         return rooms.check(row)
-    if number == APART:
+    if call == ROOM:
+        return rooms.room(row)
+    if call == PLAN:
+        return rooms.plan(number)
+    if call == PACK:
+        return rooms.pack(row)
+    if call == SET_DATA:
+        return rooms.set_data(number, row)
+    if call == RUN:
+        return rooms.run(row)
+    if call == APART:
         return rooms.apart()
     raise NotImplementedError("no such call")
 
 
-def answer_call(rooms, number, row):
+def answer_call(rooms, call, number, row):
     try:
-        return work_call(rooms, number, row)
+        return work_call(rooms, call, number, row)
     except Refusal as e:
         return [e.number]
 
@@ -104,14 +171,18 @@ def answers(calls):
     answered = []
     position = 0
     while position < len(calls):
-        number = calls[position]
+        call = calls[position]
         position += 1
+        number = 0
+        if call in CALLS_WITH_NUMBER:
+            number = calls[position]
+            position += 1
         row = []
-        if number in CALLS_WITH_ROW:
+        if call in CALLS_WITH_ROW:
             row_end = position + 1 + calls[position]
             row = calls[position + 1:row_end]
             position = row_end
-        answer = answer_call(rooms, number, row)
+        answer = answer_call(rooms, call, number, row)
         answered.append(len(answer))
         answered.extend(answer)
     return answered

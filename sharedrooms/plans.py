@@ -1,4 +1,4 @@
-"""Plans: whether one fits the program, and which arrays clash in it."""
+"""Plans: whether one fits the program, which arrays clash in it, and the room it takes."""
 
 from sharedrooms.refusals import WrongPlan
 from sharedrooms.times import live_ranges, may_take_over
@@ -52,3 +52,11 @@ def first_clash(program, plan):
             if clash(program, ranges, plan, a, b):
                 return [a, b]
     return []
+
+
+def room_of(program, plan):
+    room = 0
+    for number, statement in enumerate(program.statements):
+        if statement.length > 0:
+            room = max(room, plan[number] + statement.length)
+    return room

@@ -34,6 +34,26 @@ class WrongPlan(Refusal):
         Refusal.__init__(self, -5)
 
 
+class BeyondLimit(Refusal):
+    def __init__(self):
+        Refusal.__init__(self, -6)
+
+
+class ClashingPlan(Refusal):
+    def __init__(self):
+        Refusal.__init__(self, -7)
+
+
+class AbsentInput(Refusal):
+    def __init__(self):
+        Refusal.__init__(self, -8)
+
+
+class WrongData(Refusal):
+    def __init__(self):
+        Refusal.__init__(self, -9)
+
+
 class MissingData(Refusal):
     def __init__(self):
         Refusal.__init__(self, -10)

@@ -7,6 +7,10 @@ FORM = [-2]
 NAME = [-3]
 NONE = [-4]
 PLAN = [-5]
+LIMIT = [-6]
+CLASH = [-7]
+ABSENT = [-8]
+DATA = [-9]
 MISSING = [-10]
 
 
@@ -40,6 +44,26 @@ def need():
 
 def check(*plan):
     return [5] + row(plan)
+
+
+def room(*plan):
+    return [6] + row(plan)
+
+
+def plan(k):
+    return [7, k]
+
+
+def pack(*plan):
+    return [8] + row(plan)
+
+
+def set_data(n, *data):
+    return [9, n] + row(data)
+
+
+def run(*plan):
+    return [10] + row(plan)
 
 
 def apart():
