@@ -57,6 +57,11 @@ class PackTest(unittest.TestCase):
         text = "in x 3;in a 2;let b 2=map a;"
         self.assert_packs(text, ((0, 10, 10), (0, 3, 3)), ((0, 10, 12), (0, 3, 0)))
 
+    def test_groups_of_the_shortest_and_the_longest_arrays(self):
+        for size in (1, 64):
+            text = f"in a {size};let b {size}=map a;out c {size}=turn b;"
+            self.assert_packs(text, ((90, 90, 10), (size, size, 0)), ((90, 200, 10), (0, size, 0)))
+
     def test_arrays_that_may_take_over_but_lie_apart_stay_apart(self):
         self.assert_packs("in a 2;let b 2=map a;", ((0, 2), (0, 2)), ((2, 0), (2, 0)), ((7, 90), (0, 2)))
 

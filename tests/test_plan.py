@@ -71,6 +71,11 @@ class PlanTest(unittest.TestCase):
         self.assert_plans("in a 4;let b 4=map a;let c 1=map a;", kind1=[0, 4, 4], kind2=[0, 4, 4])
         self.assert_plans("in a 4;out b 4=map a;out c 4=map b;", kind1=[0, 0, 4], kind2=[0, 0, 4])
 
+    def test_taking_over_by_the_shortest_and_the_longest_arrays(self):
+        for size in (1, 64):
+            text = f"in a {size};in b {size};let c {size}=map b;out d {size}=map a c;"
+            self.assert_plans(text, kind1=[0, size, size, 0], kind2=[0, size, size, 0])
+
     def test_taking_over_at_an_offset_above_0(self):
         self.assert_plans("in a 2;in b 2;let c 2=map b;out d 2=map a c;", kind1=[0, 2, 2, 0], kind2=[0, 2, 2, 0])
         self.assert_plans("in a 3;in b 2;let c 2=map b;let d 1=map a;", kind1=[0, 3, 3, 3], kind2=[0, 3, 3, 3])
